@@ -1,0 +1,1 @@
+"""Findcourt: texts found exactly, by pieces, stamps and papers."""
