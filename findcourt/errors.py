@@ -1,47 +1,43 @@
-"""The refusals: each one stands straight under FindError."""
+"""The refusals: each one stands straight under FindError, so that any can be taken by that name."""
 
 
 class FindError(ValueError):
-    """Any refusal."""
+    pass
 
 
 class NoField(FindError):
-    """A document whose tuple at this place has a field that is no name or does not rise."""
-
     def __init__(self, place):
         self.place = place
 
 
 class NoMake(FindError):
-    """A make that may not stand where it does; place says where."""
-
     def __init__(self, place):
         self.place = place
 
 
 class NoBytes(FindError):
-    """A row of numbers that nothing is packed into."""
+    pass
 
 
 class NoDocument(FindError):
-    """A number that no document has."""
+    pass
 
 
 class NoStamp(FindError):
-    """A stamp that is not kept."""
+    pass
 
 
 class NoPiece(FindError):
-    """A place at which there is no piece."""
+    pass
 
 
 class NoPattern(FindError):
-    """A text that is no pattern."""
+    pass
 
 
 class NoLine(FindError):
-    """A line that is none of those told."""
+    pass
 
 
 class NoText(FindError):
-    """A line that no question or paper is written as."""
+    pass

@@ -36,10 +36,9 @@ def add_postings(by_word, make, found):
 
 
 class Piece:
-    """What a makes list has of words; it keeps nothing of the list itself."""
-
     def __init__(self, makes):
         look_at_makes(makes)
+        # Nothing of the list itself is kept: whoever handed it in may change it behind.
         self.own_makes = [make for make, document in makes]
         self.by_field = {}
         self.lengths = {}

@@ -109,6 +109,8 @@ class Syntax(unittest.TestCase):
                     self.assertIsInstance(node, STATEMENTS, f"L6 {where}")
                 if isinstance(node, ast.expr):
                     self.assertIsInstance(node, EXPRESSIONS, f"L7 {where}")
+                if isinstance(node, ast.Expr) and node is not tree.body[0]:
+                    self.assertIsInstance(node.value, ast.Call, f"L6 {where}")
                 if isinstance(node, (ast.For, ast.While)):
                     self.assertEqual(node.orelse, [], f"L6 {where}")
                 if isinstance(node, ast.Assign):

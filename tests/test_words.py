@@ -6,7 +6,7 @@ import re
 import unittest
 
 from findcourt.errors import NoField
-from findcourt.words import look_at_document, words_of
+from findcourt.words import is_name, look_at_document, words_of
 
 # From the blank to ~, but the sign that no text has.
 SIGNS = [chr(code) for code in range(32, 127) if chr(code) != "%"]
@@ -59,6 +59,13 @@ class Documents(unittest.TestCase):
         self.assertEqual(self.refused_at([("ab", "x"), ("a", "x")]), 1)
         self.assertEqual(self.refused_at([("a", "x"), ("c", "x"), ("b", "x")]), 2)
         self.assertEqual(self.refused_at([("a", ""), ("b", ""), ("c", ""), ("c", "")]), 3)
+
+    def test_names_by_themselves(self):
+        for text in ("a", "z", "abcdefghijkl"):
+            self.assertTrue(is_name(text), text)
+        # In a document an empty field also fails to rise, so it is asked here alone.
+        for text in ("", "abcdefghijklm", "A", "a1", "*"):
+            self.assertFalse(is_name(text), text)
 
     def test_order_is_that_of_texts_and_not_of_lengths(self):
         self.assertEqual(self.refused_at([("b", "x"), ("aa", "x")]), 1)
