@@ -68,6 +68,15 @@ class Piece:
         return self.lengths.get((make, field), 0)
 
 
+def piece_of_parts(makes, by_field, lengths):
+    # For whoever has the postings and no documents. The parts are handed over, not copied.
+    piece = Piece([])
+    piece.own_makes = makes
+    piece.by_field = by_field
+    piece.lengths = lengths
+    return piece
+
+
 def stretch_of(postings):
     most = max([len(places) for make, places in postings])
     return (postings[0][0], postings[-1][0], most)

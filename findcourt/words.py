@@ -9,9 +9,18 @@ def is_small_letter(sign):
     return "a" <= sign <= "z"
 
 
+def is_figure(sign):
+    return "0" <= sign <= "9"
+
+
 def is_word_sign(sign):
     # Written out, since isalnum also takes signs that are neither a to z nor 0 to 9.
-    return is_small_letter(sign) or "A" <= sign <= "Z" or "0" <= sign <= "9"
+    return is_small_letter(sign) or "A" <= sign <= "Z" or is_figure(sign)
+
+
+def is_word(text):
+    # As words are told: great letters have been turned into small ones.
+    return len(text) > 0 and all([is_small_letter(sign) or is_figure(sign) for sign in text])
 
 
 def is_name(text):

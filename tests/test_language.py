@@ -6,8 +6,10 @@ number stands in what a failing test tells.
 
 import ast
 import builtins
+import io
 import pathlib
 import re
+import tokenize
 import unittest
 
 PACKAGE = pathlib.Path(__file__).resolve().parent.parent / "findcourt"
@@ -29,7 +31,16 @@ DUNDERS = ["__init__", "__eq__", "__repr__", "__str__", "__len__"]
 BANNED_WORDS = """type typing typing_extensions enum Enum IntEnum StrEnum Flag IntFlag Generic Protocol ABC
     ABCMeta namedtuple NamedTuple TypedDict TYPE_CHECKING abstractmethod""".split()
 BANNED_PARTS = ["dataclass", "overload", "contextmanager"]
-KEPT_WALKS = ["zip", "enumerate", "reversed", "range"]
+WALKS = ["zip", "enumerate", "reversed", "range"]
+WALKING_METHODS = ["items", "keys", "values"]
+WALKERS = ["list", "tuple", "dict", "sorted", "sum", "any", "all", "enumerate", "zip", "min", "max"]
+BANNED_EVERYWHERE = "register mro elements open input version_info with_traceback add_note".split()
+BANNED_NAMES = """attrgetter breakpoint builtins compile copyright credits delattr dir eval exec exit gc getattr
+    globals hasattr help id importlib license locals methodcaller os quit setattr super type vars sys
+    __name__""".split()
+KEYWORDS = {"sorted": ["key", "reverse"], "min": ["key", "default"], "max": ["key", "default"], "sum": ["start"],
+            "enumerate": ["start"], "zip": ["strict"]}
+VALUE_NAMES = "count index title find get join lower upper split strip copy add".split()
 
 
 def files():
@@ -65,6 +76,24 @@ def top_names(tree):
 
 def classes():
     return [node for path, tree in trees() for node in tree.body if isinstance(node, ast.ClassDef)]
+
+
+def parents_of(tree):
+    """The node around each node."""
+    return {child: node for node in ast.walk(tree) for child in ast.iter_child_nodes(node)}
+
+
+def drawn_from(tree):
+    return [node.module.split(".")[1] for node in tree.body if isinstance(node, ast.ImportFrom)]
+
+
+def is_walk(node):
+    """Whether this is a call whose answer is to be walked on the spot."""
+    if not isinstance(node, ast.Call):
+        return False
+    if isinstance(node.func, ast.Name):
+        return node.func.id in WALKS
+    return isinstance(node.func, ast.Attribute) and node.func.attr in WALKING_METHODS
 
 
 def methods_of(node):
@@ -194,11 +223,116 @@ class Names(unittest.TestCase):
         values = [name for node in classes() for name in values_of(node)]
         self.assertEqual(set(methods) & set(values), set(), "L18")
 
-    def test_walks_are_not_kept(self):
+    def test_own_methods_and_values(self):
+        pythons = [name for kind in (str, int, list, dict, set, bytes, tuple) for name in dir(kind)]
+        for node in classes():
+            methods = methods_of(node)
+            self.assertEqual(len(methods), len(set(methods)), f"L18 {node.name}")
+            for name in methods:
+                self.assertTrue(name not in pythons or name in METHODS + DUNDERS + ["add", "discard"], f"L26 {name}")
+            for name in values_of(node):
+                self.assertTrue(name not in pythons + ["args"] or name in VALUE_NAMES, f"L26 {name}")
+
+    def test_names_that_are_not_used(self):
         for path, tree in trees():
             for node in ast.walk(tree):
-                if isinstance(node, (ast.Assign, ast.Return)) and isinstance(node.value, ast.Call):
-                    self.assertNotIn(getattr(node.value.func, "id", ""), KEPT_WALKS, f"L23 {path}:{node.lineno}")
+                if isinstance(node, (ast.Name, ast.Attribute)):
+                    name = node.id if isinstance(node, ast.Name) else node.attr
+                    self.assertNotIn(name, BANNED_EVERYWHERE, f"L17 {path}:{node.lineno}")
+                if isinstance(node, ast.Name):
+                    self.assertNotIn(node.id, BANNED_NAMES, f"L17 {path}:{node.lineno}")
+
+
+class Ways(unittest.TestCase):
+    """Rules on how what is there may be used."""
+
+    def test_walked_on_the_spot(self):
+        for path, tree in trees():
+            parents = parents_of(tree)
+            for node in ast.walk(tree):
+                if is_walk(node):
+                    around = parents[node]
+                    walked = isinstance(around, (ast.For, ast.comprehension)) and around.iter is node
+                    handed_on = (isinstance(around, ast.Call) and node in around.args[:1]
+                                 and getattr(around.func, "id", "") in WALKERS)
+                    self.assertTrue(walked or handed_on, f"L23 {path}:{node.lineno}")
+
+    def test_no_file_draws_from_itself(self):
+        drawn = {path.stem: drawn_from(tree) for path, tree in trees()}
+        while drawn:
+            free = [stem for stem in drawn if not any(other in drawn for other in drawn[stem])]
+            self.assertTrue(free, f"L16 {sorted(drawn)}")
+            for stem in free:
+                drawn.pop(stem)
+
+    def test_sets_are_not_used(self):
+        for path, tree in trees():
+            for node in ast.walk(tree):
+                named = isinstance(node, ast.Name) and node.id in ("set", "frozenset")
+                self.assertFalse(named or isinstance(node, ast.Set), f"L24 {path}:{getattr(node, 'lineno', 0)}")
+
+    def test_is(self):
+        for path, tree in trees():
+            for node in ast.walk(tree):
+                if isinstance(node, ast.Compare) and isinstance(node.ops[0], (ast.Is, ast.IsNot)):
+                    plain = [part.value for part in (node.left, node.comparators[0]) if isinstance(part, ast.Constant)]
+                    self.assertTrue(any(value is None or value is True or value is False for value in plain),
+                                    f"L20 {path}:{node.lineno}")
+
+    def test_powers(self):
+        for path, tree in trees():
+            for node in ast.walk(tree):
+                if isinstance(node, (ast.BinOp, ast.AugAssign)) and isinstance(node.op, ast.Pow):
+                    written = node.right if isinstance(node, ast.BinOp) else node.value
+                    self.assertIsInstance(written, ast.Constant, f"L27 {path}:{node.lineno}")
+                    self.assertTrue(0 <= written.value <= 64, f"L27 {path}:{node.lineno}")
+
+    def test_escapes(self):
+        for path in files():
+            for token in tokenize.generate_tokens(io.StringIO(path.read_text(encoding="utf-8")).readline):
+                if token.type == tokenize.STRING:
+                    for escape in re.findall(r"\\(.|\n)", token.string):
+                        self.assertIn(escape, "nt\\\"'", f"L27 {path}:{token.start[0]}")
+
+    def test_keywords(self):
+        for path, tree in trees():
+            for node in ast.walk(tree):
+                if isinstance(node, ast.Call):
+                    name = node.func.id if isinstance(node.func, ast.Name) else node.func.attr
+                    if name in BUILTINS + METHODS:
+                        for keyword in node.keywords:
+                            self.assertIn(keyword.arg, KEYWORDS.get(name, []), f"L22 {path}:{node.lineno}")
+
+    def test_errors(self):
+        for path, tree in trees():
+            for node in ast.walk(tree):
+                if isinstance(node, ast.ExceptHandler):
+                    self.assertIsInstance(node.type, (ast.Name, ast.Tuple), f"L19 {path}:{node.lineno}")
+                    self.assertNotIn(getattr(node.type, "id", ""), ["Exception", "TypeError"], f"L19 {path}")
+                if isinstance(node, ast.Raise):
+                    self.assertIsInstance(node.exc, ast.Call, f"L19 {path}:{node.lineno}")
+
+    def test_annotations(self):
+        for path, tree in trees():
+            for node in ast.walk(tree):
+                if isinstance(node, ast.FunctionDef):
+                    self.assertIsNone(node.returns, f"L21 {path}:{node.lineno}")
+                if isinstance(node, ast.arg):
+                    self.assertIsNone(node.annotation, f"L21 {path}:{node.lineno}")
+
+    def test_lists_and_dicts_of_the_top(self):
+        for path, tree in trees():
+            kept = []
+            for node in tree.body:
+                if isinstance(node, ast.Assign) and isinstance(node.value, (ast.List, ast.Dict)):
+                    kept.append(node.targets[0].id)
+                    within = [part for part in ast.walk(node.value) if isinstance(part, (ast.List, ast.Dict))]
+                    self.assertEqual(within, [node.value], f"L15 {path}:{node.lineno}")
+            parents = parents_of(tree)
+            for node in ast.walk(tree):
+                if isinstance(node, ast.Name) and node.id in kept and isinstance(node.ctx, ast.Load):
+                    self.assertIsInstance(parents[node], (ast.Subscript, ast.Attribute, ast.Compare, ast.For, ast.Call),
+                                          f"L15 {path}:{node.lineno}")
 
 
 if __name__ == "__main__":

@@ -2,13 +2,11 @@
 
 import copy
 import random
-import re
 import unittest
 
 from findcourt.errors import NoField, NoMake
 from findcourt.pieces import Piece, stretches_of
-
-FAR = 10 ** 59
+from helpers import FAR, all_told, change_all, plain_postings, plain_text, plain_words, some_makes
 
 HOUSE = [
     (0, [("body", "The old house, the old garden."), ("title", "House")]),
@@ -81,28 +79,6 @@ class MakesLists(unittest.TestCase):
         self.refused_at(NoMake, HOUSE + [(5, [("body", "other")])])
         self.refused_at(NoField, HOUSE + [(FAR + 1, [("body", "other"), ("body", "old")])])
         self.assertEqual(all_told(piece), before)
-
-
-def all_told(piece):
-    """What a piece tells, with some fields, words and makes that it has not."""
-    told = [piece.makes(), piece.fields()]
-    for field in piece.fields() + ["other"]:
-        told.append((field, piece.words(field)))
-        for word in piece.words(field) + ["other"]:
-            told.append((field, word, piece.postings(field, word)))
-        for make in piece.makes() + [1, FAR + 1]:
-            told.append((field, make, piece.length(make, field)))
-    return told
-
-
-def change_all(told):
-    """Changes each list in what was told, all the way down."""
-    for part in told:
-        if isinstance(part, (list, tuple)):
-            change_all(part)
-    if isinstance(told, list):
-        told.append("changed")
-        told.reverse()
 
 
 class Pieces(unittest.TestCase):
@@ -231,36 +207,6 @@ class Pieces(unittest.TestCase):
                     self.assertEqual(piece.postings(field, word), plain_postings(makes, field, word))
                 for make in range(40):
                     self.assertEqual(piece.length(make, field), len(plain_text(makes, make, field)))
-
-
-def some_makes(chance):
-    makes = []
-    for make in sorted(chance.sample(range(40), chance.randrange(12))):
-        document = []
-        for field in "abc":
-            if chance.randrange(3):
-                document.append((field, "".join(chance.choices("xXyz0 -", k=chance.randrange(25)))))
-        makes.append((make, document))
-    return makes
-
-
-def plain_text(makes, make, field):
-    """The words of this field of this make, one behind the other."""
-    text = dict(dict(makes).get(make, [])).get(field, "")
-    return re.findall("[a-z0-9]+", text.lower())
-
-
-def plain_words(makes, field):
-    return sorted({word for make, document in makes for word in plain_text(makes, make, field)})
-
-
-def plain_postings(makes, field, word):
-    found = []
-    for make, document in makes:
-        places = [place for place, other in enumerate(plain_text(makes, make, field)) if other == word]
-        if places:
-            found.append((make, places))
-    return found
 
 
 def postings_of(counts, step=3):

@@ -6,10 +6,8 @@ import re
 import unittest
 
 from findcourt.errors import NoField
-from findcourt.words import is_name, look_at_document, words_of
-
-# From the blank to ~, but the sign that no text has.
-SIGNS = [chr(code) for code in range(32, 127) if chr(code) != "%"]
+from findcourt.words import is_name, is_word, look_at_document, words_of
+from helpers import SIGNS
 
 
 class Documents(unittest.TestCase):
@@ -139,6 +137,14 @@ class Words(unittest.TestCase):
             plain = [(found.group().lower(), found.start(), found.end())
                      for found in re.finditer("[A-Za-z0-9]+", text)]
             self.assertEqual(words_of(text), plain, text)
+
+    def test_words_by_themselves(self):
+        for text in ("a", "7", "0a", "az09", "q" * 2000):
+            self.assertTrue(is_word(text), text)
+        for sign in SIGNS:
+            self.assertEqual(is_word(sign), re.fullmatch("[a-z0-9]", sign) is not None, sign)
+        for text in ("", "A", "aB", "a b", " a", "a ", "a'"):
+            self.assertFalse(is_word(text), text)
 
     def test_the_told_list_is_the_askers_own(self):
         first = words_of("one two")
