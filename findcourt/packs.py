@@ -216,9 +216,7 @@ def look_at_places(lengths, by_word):
 
 def add_lengths(lengths, field, field_lengths):
     for make in field_lengths:
-        # A piece keeps no length of 0: that is what it tells of all that it has not.
-        if field_lengths[make] > 0:
-            lengths[(make, field)] = field_lengths[make]
+        lengths[(make, field)] = field_lengths[make]
 
 
 def next_piece(reader):

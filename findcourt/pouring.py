@@ -26,7 +26,7 @@ def add_field_postings(by_field, piece, field, kept):
 
 def add_field_lengths(lengths, piece, field, kept):
     for make in piece.makes():
-        if make in kept and piece.length(make, field) > 0:
+        if make in kept:
             lengths[(kept[make], field)] = piece.length(make, field)
 
 

@@ -10,7 +10,7 @@ class Stand:
     def __init__(self, pieces, makes_by_number, texts_by_make):
         numbers_by_make = {}
         self.texts_by_number = {}
-        for number in sorted(makes_by_number):
+        for number in makes_by_number:
             make = makes_by_number[number]
             numbers_by_make[make] = number
             self.texts_by_number[number] = texts_by_make[make]

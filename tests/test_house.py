@@ -363,6 +363,17 @@ class Thinning(HouseCase):
         self.assertEqual(house.pieces(), [[0, 2], [4, 5], [6]])
         self.assertEqual(stand_told(house.now()), before)
 
+    def test_texts_that_nothing_needs_are_not_kept(self):
+        house = sealed_house(2, 3)
+        stamp = house.stamp()
+        for number in (1, 3, 4, 5):
+            house.take(number)
+        house.thin()
+        self.assertEqual(sorted(house.texts_by_make), [0, 1, 2, 3, 4, 5])
+        house.drop(stamp)
+        house.thin()
+        self.assertEqual(sorted(house.texts_by_make), [0, 2])
+
     def test_nothing_to_thin(self):
         house = sealed_house(2, 2)
         house.pack(0)

@@ -440,12 +440,15 @@ class RefusedPieces(BytesCase):
         self.assertEqual(read_piece([1, 4, 2] + field + other).fields(), ["a", "b"])
         self.refused(read_piece, [1, 4, 2] + other + field)
         self.refused(read_piece, [1, 4, 2] + field + field)
+        self.refused(read_piece, [1, 4, 2] + field + field + other)
 
     def test_words_that_do_not_rise(self):
         self.assertEqual(read_piece(one_field(lengths=(2,), words=(2, 1, 120, 1, 4, 1, 0, 1, 121, 1, 4, 1, 1)))
                          .words("a"), ["x", "y"])
         self.refused(read_piece, one_field(lengths=(2,), words=(2, 1, 121, 1, 4, 1, 1, 1, 120, 1, 4, 1, 0)))
         self.refused(read_piece, one_field(lengths=(2,), words=(2, 1, 120, 1, 4, 1, 0, 1, 120, 1, 4, 1, 1)))
+        self.refused(read_piece, one_field(lengths=(2,), words=(2, 1, 120, 1, 4, 1, 0, 1, 120, 1, 4, 1, 0,
+                                                                1, 121, 1, 4, 1, 1)))
         # As texts rise, and not by their lengths.
         self.refused(read_piece, one_field(lengths=(2,), words=(2, 1, 120, 1, 4, 1, 0, 2, 97, 97, 1, 4, 1, 1)))
 
