@@ -2,13 +2,12 @@
 
 from findcourt.errors import NoBytes
 from findcourt.pieces import piece_of_parts
-from findcourt.words import is_name, is_word
+from findcourt.words import NO_SIGN, is_name, is_word
 
 BYTE_PART = 128
 LAST_BYTE = 255
 FIRST_SIGN = 32
 LAST_SIGN = 126
-NO_SIGN = 37
 # From FIRST_SIGN to LAST_SIGN; at the place of NO_SIGN, which no text has, a blank stands in.
 SIGNS = (" !\"#$ &'()*+,-./0123456789:;<=>?@ABCDEFGHIJKLMNOPQRSTUVWXYZ[\\]^_`"
          "abcdefghijklmnopqrstuvwxyz{|}~")

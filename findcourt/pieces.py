@@ -1,7 +1,8 @@
 """Pieces: the words of some makes, by field and word."""
 
 from findcourt.errors import NoMake
-from findcourt.words import look_at_document, words_of
+from findcourt.places import places_by_word
+from findcourt.words import bare_words, look_at_document
 
 STRETCH_MAKES = 4
 
@@ -22,15 +23,8 @@ def look_at_makes(makes):
         ahead = make
 
 
-def places_by_word(found):
-    places = {}
-    for place, entry in enumerate(found):
-        places.setdefault(entry[0], []).append(place)
-    return places
-
-
-def add_postings(by_word, make, found):
-    places = places_by_word(found)
+def add_postings(by_word, make, words):
+    places = places_by_word(words)
     for word in places:
         by_word.setdefault(word, []).append((make, places[word]))
 
@@ -44,11 +38,11 @@ class Piece:
         self.lengths = {}
         for make, document in makes:
             for field, text in document:
-                found = words_of(text)
+                words = bare_words(text)
                 # A field without words is to be left out of fields().
-                if found:
-                    self.lengths[(make, field)] = len(found)
-                    add_postings(self.by_field.setdefault(field, {}), make, found)
+                if words:
+                    self.lengths[(make, field)] = len(words)
+                    add_postings(self.by_field.setdefault(field, {}), make, words)
 
     def makes(self):
         return list(self.own_makes)

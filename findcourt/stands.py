@@ -3,7 +3,7 @@
 from findcourt.errors import NoDocument
 from findcourt.pieces import stretches_of
 from findcourt.pouring import gathered
-from findcourt.words import words_of
+from findcourt.words import bare_words
 
 
 class Stand:
@@ -46,7 +46,7 @@ class Stand:
     def words_by_field(self, number):
         told = {}
         for field, text in self.document(number):
-            words = [entry[0] for entry in words_of(text)]
+            words = bare_words(text)
             if words:
                 told[field] = words
         return told

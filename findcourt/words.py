@@ -3,6 +3,8 @@
 from findcourt.errors import NoField
 
 MOST_NAME_SIGNS = 12
+# The sign of the hundredth part, by its number in the row of signs: no text has it.
+NO_SIGN = 37
 
 
 def is_small_letter(sign):
@@ -21,6 +23,10 @@ def is_word_sign(sign):
 def is_word(text):
     # As words are told: great letters have been turned into small ones.
     return len(text) > 0 and all([is_small_letter(sign) or is_figure(sign) for sign in text])
+
+
+def is_text_sign(sign):
+    return " " <= sign <= "~" and ord(sign) != NO_SIGN
 
 
 def is_name(text):
@@ -54,3 +60,7 @@ def words_of(text):
         # The sign at end is no word's, so the next word begins behind it at the earliest.
         begin = end + 1
     return found
+
+
+def bare_words(text):
+    return [entry[0] for entry in words_of(text)]
