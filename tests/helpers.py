@@ -194,8 +194,8 @@ class PlainHouse:
         return {number: self.texts[make] for number, make in live.items()}
 
 
-def some_deed(chance, plain):
-    """A deed that the house as it is does not refuse, as a tuple."""
+def some_deed(chance, plain, made=some_document):
+    """A deed that the house as it is does not refuse, as a tuple; documents are made by the function told."""
     numbers, stamps, pieces = sorted(plain.live), sorted(plain.kept), len(plain.sealed)
     choices = ["put", "put", "put", "stamp", "seal", "seal", "thin"]
     choices += ["change", "change", "take"] if numbers else []
@@ -203,9 +203,9 @@ def some_deed(chance, plain):
     choices += ["pour", "pack", "pack"] if pieces else []
     name = chance.choice(choices)
     if name == "put":
-        return (name, some_document(chance))
+        return (name, made(chance))
     if name == "change":
-        return (name, chance.choice(numbers), some_document(chance))
+        return (name, chance.choice(numbers), made(chance))
     if name == "take":
         return (name, chance.choice(numbers))
     if name == "drop":
