@@ -1,11 +1,8 @@
 """Answers told by the postings alone, without a look at any text."""
 
 from findcourt.asks import fields_meant, places_chosen
+from findcourt.marks import marked
 from findcourt.patterns import words_like
-
-
-def marked(numbers):
-    return dict([(number, True) for number in numbers])
 
 
 def all_of(lists):

@@ -20,19 +20,25 @@ def fraction_of(top, bottom):
     return (top // divisor, bottom // divisor)
 
 
-def added(one, other):
-    return fraction_of(one[0] * other[1] + other[0] * one[1], one[1] * other[1])
-
-
 def multiplied(one, other):
     return fraction_of(one[0] * other[0], one[1] * other[1])
 
 
-def sum_of(fractions):
-    total = (0, 1)
+def common_bottom(fractions):
+    bottom = 1
     for fraction in fractions:
-        total = added(total, fraction)
-    return total
+        bottom = bottom // greatest_divisor(bottom, fraction[1]) * fraction[1]
+    return bottom
+
+
+def tops_over(bottom, fractions):
+    return [fraction[0] * (bottom // fraction[1]) for fraction in fractions]
+
+
+def sum_of(fractions):
+    # Brought to lowest terms once, not with each step: that is what takes long with great numbers.
+    bottom = common_bottom(fractions)
+    return fraction_of(sum(tops_over(bottom, fractions)), bottom)
 
 
 def is_less(one, other):

@@ -12,6 +12,14 @@ def places_by_word(words):
     return places
 
 
+def places_by_field(fields):
+    # Of a document's words by field.
+    found = {}
+    for field in fields:
+        found[field] = places_by_word(fields[field])
+    return found
+
+
 def words_by_place(words, places):
     found = {}
     for word in words:
@@ -27,6 +35,10 @@ def row_place(words, places):
         if all([found.get(begin + step) == word for step, word in enumerate(words)]):
             return begin
     return None
+
+
+def times_within(word, width, found, begin):
+    return len([place for place in range(begin, begin + width) if found.get(place) == word])
 
 
 def near_from(words, width, found, begin):

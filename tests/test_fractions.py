@@ -5,7 +5,7 @@ import itertools
 import math
 import unittest
 
-from findcourt.fractions import added, fraction_of, greatest_divisor, is_less, multiplied, sum_of
+from findcourt.fractions import common_bottom, fraction_of, greatest_divisor, is_less, multiplied, sum_of, tops_over
 from helpers import FAR
 
 NUMBERS = [-FAR, -60, -7, -2, -1, 0, 1, 2, 3, 12, 60, 128, FAR - 1, FAR, 2 ** 190 * 3 ** 20, 2 ** 100 * 5 ** 30]
@@ -63,14 +63,10 @@ class Made(FractionCase):
 
 
 class Reckoned(FractionCase):
-    def test_added_and_multiplied(self):
-        self.assertEqual(added((1, 2), (1, 2)), (1, 1))
-        self.assertEqual(added((1, 6), (1, 3)), (1, 2))
-        self.assertEqual(added((1, 2), (-1, 2)), (0, 1))
+    def test_multiplied(self):
         self.assertEqual(multiplied((2, 3), (3, 4)), (1, 2))
         self.assertEqual(multiplied((0, 1), (3, 4)), (0, 1))
         for one, other in itertools.product(FRACTIONS, repeat=2):
-            self.look_at_fraction(added(pair(one), pair(other)), *pair(one + other))
             self.look_at_fraction(multiplied(pair(one), pair(other)), *pair(one * other))
 
     def test_is_less(self):
@@ -87,6 +83,16 @@ class Reckoned(FractionCase):
         handed_in = [pair(one) for one in FRACTIONS]
         self.assertEqual(sum_of(handed_in), pair(sum(FRACTIONS)))
         self.assertEqual(handed_in, [pair(one) for one in FRACTIONS])
+        self.assertEqual(sum_of([(1, 2), (-1, 2)]), (0, 1))
+        for one, other in itertools.product(FRACTIONS, repeat=2):
+            self.look_at_fraction(sum_of([pair(one), pair(other)]), *pair(one + other))
+
+    def test_over_one_bottom(self):
+        self.assertEqual(common_bottom([]), 1)
+        self.assertEqual(common_bottom([(1, 4), (5, 6), (2, 1)]), 12)
+        self.assertEqual(tops_over(12, [(1, 4), (5, 6), (2, 1), (0, 1)]), [3, 10, 24, 0])
+        self.assertEqual(common_bottom([pair(one) for one in FRACTIONS]),
+                         math.lcm(*[one.denominator for one in FRACTIONS]))
 
 
 if __name__ == "__main__":
