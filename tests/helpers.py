@@ -1,12 +1,27 @@
 """What several tests need: plain looking, changing what was told, and a house kept plainly."""
 
+import contextlib
 import copy
 import re
+import sys
 
 FAR = 10 ** 59
 
 # From the blank to ~, but the sign that no text has.
 SIGNS = [chr(code) for code in range(32, 127) if chr(code) != "%"]
+
+
+@contextlib.contextmanager
+def at_most_calls(many):
+    """Within it, calls go at most so much deeper than where it stands."""
+    frame, depth, before = sys._getframe(), 0, sys.getrecursionlimit()
+    while frame is not None:
+        frame, depth = frame.f_back, depth + 1
+    sys.setrecursionlimit(depth + many)
+    try:
+        yield
+    finally:
+        sys.setrecursionlimit(before)
 
 
 def change_all(told):

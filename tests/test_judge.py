@@ -504,6 +504,7 @@ class Best(unittest.TestCase):
         self.assertFalse(self.judged(([], [], []), 3, nowhere))
         self.assertFalse(self.judged(([], [], [(number, (0, 1)) for number in range(8)]), 3, nowhere))
         self.assertFalse(self.judged(([], [], [(number, ("none", [])) for number in range(8)]), 3, self.QUESTION))
+        self.assertTrue(judge_best(documents_of("y"), ("word", "a", "x"), 0, ([], [], [(0, ("lacks",))])))
         empty = House().now()
         self.assertTrue(judge_best(empty, nowhere, 1, ([], [], [])))
         self.assertFalse(judge_best(empty, nowhere, 1, ([], [("a", "q")], [])))
