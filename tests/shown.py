@@ -1,6 +1,5 @@
 """Which papers are right, by the document's words alone, and papers with one thing altered."""
 
-import itertools
 from fractions import Fraction
 
 from asked import (choices_of_places, fields_plainly, fits_plainly, holds_plainly, leaves_plainly)
@@ -9,6 +8,7 @@ from weighed import pair, times_plainly, top_plainly, worth_plainly
 
 FIRST_TEXTS = ["at", "fits", "from", "places", "all", "this", "no",
                "lacks", "broken", "thin", "late", "fails", "none", "yes"]
+NO_ROWS = {"row": "broken", "near": "thin", "chain": "late"}
 OTHERS = [("at", "a", 0), ("fits", "a", "x", 0), ("from", "a", 0), ("places", "a", [0]), ("places", "a", []),
           ("all", []), ("this", 0, ("at", "a", 0)), ("no", ("lacks",)), ("lacks",), ("broken", []), ("thin", []),
           ("late", []), ("broken", [("a", [])]), ("thin", [("a", [])]), ("late", [("a", [])]),
@@ -65,10 +65,8 @@ def late_plainly(words, asked, width):
     return entries
 
 
-def no_leaf_papers(fields, question):
-    """All right no-papers for a question with a field in it; none where it holds."""
-    if question[0] in ("word", "like"):
-        return [] if holds_plainly(fields, question) else [("lacks",)]
+def no_choices(fields, question):
+    """For each field meant, and each place that an entry must stand for, the list of all right entries."""
     by_field = []
     for field in meant(fields, question):
         words = fields.get(field, [])
@@ -78,9 +76,29 @@ def no_leaf_papers(fields, question):
             choices = thin_plainly(words, question[3], question[2])
         else:
             choices = late_plainly(words, question[3], question[2])
-        by_field.append([(field, list(chosen)) for chosen in itertools.product(*choices)])
-    first = {"row": "broken", "near": "thin", "chain": "late"}[question[0]]
-    return [(first, list(rows)) for rows in itertools.product(*by_field)]
+        by_field.append((field, choices))
+    return by_field
+
+
+def some_no_papers(chance, fields, question, many):
+    """Some right no-papers for a question with a field in it that does not hold."""
+    if question[0] in ("word", "like"):
+        return [("lacks",)]
+    by_field = no_choices(fields, question)
+    return [(NO_ROWS[question[0]], [(field, [chance.choice(right) for right in choices]) for field, choices in by_field])
+            for at in range(many)]
+
+
+def is_right_no_leaf_paper(fields, question, paper):
+    if question[0] in ("word", "like"):
+        return paper == ("lacks",) and not holds_plainly(fields, question)
+    by_field = no_choices(fields, question)
+    if paper[0] != NO_ROWS[question[0]] or [row[0] for row in paper[1]] != [field for field, choices in by_field]:
+        return False
+    for (field, entries), (same, choices) in zip(paper[1], by_field):
+        if len(entries) != len(choices) or not all(entry in right for entry, right in zip(entries, choices)):
+            return False
+    return True
 
 
 def is_right_plainly(fields, question, told, paper):
@@ -95,7 +113,7 @@ def is_right_plainly(fields, question, told, paper):
                             for part, within in zip(question[1], paper[1])))
         return (paper[0] == picked and paper[1] in range(len(question[1]))
                 and is_right_plainly(fields, question[1][paper[1]], told, paper[2]))
-    return paper in (yes_leaf_papers if told else no_leaf_papers)(fields, question)
+    return paper in yes_leaf_papers(fields, question) if told else is_right_no_leaf_paper(fields, question, paper)
 
 
 def alterations(thing):

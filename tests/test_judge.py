@@ -14,7 +14,7 @@ from findcourt.papers import best_paper, paper_for
 from findcourt.stands import Stand
 from findcourt.worths import worth_of
 from helpers import FAR
-from shown import (OTHERS, alterations, is_best_right_plainly, is_right_plainly, no_leaf_papers, yes_leaf_papers)
+from shown import (OTHERS, alterations, is_best_right_plainly, is_right_plainly, some_no_papers, yes_leaf_papers)
 
 DOCUMENT = [("body", "the old house the old garden"), ("note", "sea sea"), ("title", "old house")]
 STAND = stand_of(DOCUMENT, [], [("body", "-")])
@@ -291,14 +291,13 @@ class Whatever(Judged):
         for time in range(400):
             document = word_document(chance)
             stand, fields, question = stand_of(document), fields_plainly(document), some_leaf_question(chance)
-            holds = holds_plainly(fields, question)
-            yes, no = yes_leaf_papers(fields, question), no_leaf_papers(fields, question)
-            self.assertEqual((bool(yes), bool(no)), (holds, not holds))
-            for told, papers in ((True, yes), (False, no)):
-                for paper in chance.sample(papers, min(5, len(papers))):
-                    self.assertTrue(self.judged(question, told, paper, 0, stand))
-                    self.assertFalse(self.judged(question, not told, paper, 0, stand))
-                    seen[told] += 1
+            papers = yes_leaf_papers(fields, question)
+            told = holds_plainly(fields, question)
+            self.assertEqual(bool(papers), told)
+            for paper in papers if told else some_no_papers(chance, fields, question, 5):
+                self.assertTrue(self.judged(question, told, paper, 0, stand))
+                self.assertFalse(self.judged(question, not told, paper, 0, stand))
+                seen[told] += 1
         self.assertGreater(min(seen.values()), 200)
 
     def test_every_told_paper_altered_in_one_thing(self):
